@@ -1,0 +1,1 @@
+"""Spinfield: spins and dimers on small graphs, in exact polynomials."""

@@ -1,0 +1,65 @@
+"""The interface: each name in its module, with its arguments."""
+
+import importlib
+import inspect
+import unittest
+
+FUNCTIONS = {
+    "fractions": {
+        "fraction": ["numerator", "denominator"],
+        "add": ["a", "b"],
+        "subtract": ["a", "b"],
+        "multiply": ["a", "b"],
+        "divide": ["a", "b"],
+        "compare": ["a", "b"],
+        "raised": ["a", "exponent"],
+    },
+    "polynomials": {
+        "polynomial": ["terms"],
+        "plus": ["p", "q"],
+        "minus": ["p", "q"],
+        "times": ["p", "q"],
+        "power": ["p", "exponent"],
+        "shared": ["p", "divisor"],
+        "value": ["p", "x", "y"],
+        "row_at": ["p", "x"],
+        "format_polynomial": ["p"],
+        "parse_polynomial": ["text"],
+    },
+}
+
+CLASSES = {
+    "errors": [
+        "FieldError", "InvalidSpins", "InvalidOrder", "HasField", "NotFerro", "InvalidPlane", "InvalidWeight",
+        "InvalidBox", "TooLarge", "PolynomialSyntaxError", "CaseSyntaxError",
+    ],
+}
+
+
+class Interface(unittest.TestCase):
+    def test_each_function_has_its_arguments(self):
+        for file, functions in FUNCTIONS.items():
+            module = importlib.import_module("spinfield." + file)
+            for name, arguments in functions.items():
+                with self.subTest(file=file, name=name):
+                    self.assertEqual(list(inspect.signature(getattr(module, name)).parameters), arguments)
+
+    def test_each_function_is_defined_in_its_file(self):
+        for file, functions in FUNCTIONS.items():
+            module = importlib.import_module("spinfield." + file)
+            for name in functions:
+                with self.subTest(file=file, name=name):
+                    self.assertTrue(inspect.isfunction(getattr(module, name)))
+                    self.assertEqual(getattr(module, name).__module__, "spinfield." + file)
+
+    def test_each_class_is_defined_in_its_file(self):
+        for file, names in CLASSES.items():
+            module = importlib.import_module("spinfield." + file)
+            for name in names:
+                with self.subTest(file=file, name=name):
+                    self.assertTrue(inspect.isclass(getattr(module, name)))
+                    self.assertEqual(getattr(module, name).__module__, "spinfield." + file)
+
+
+if __name__ == "__main__":
+    unittest.main()
