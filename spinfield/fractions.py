@@ -44,16 +44,21 @@ def compare(a, b):
 
 def raised(a, exponent):
     """Returns a fraction to the power of an integer; it is not 0 if the integer is negative."""
-    square = a
     if exponent < 0:
-        square = divide((1, 1), a)
-    result = (1, 1)
-    left = abs(exponent)
+        return repeated(divide((1, 1), a), -exponent, (1, 1), multiply)
+    return repeated(a, exponent, (1, 1), multiply)
+
+
+def repeated(base, exponent, one, combine):
+    """Returns the power of what combine multiplies, with an exponent of at least 0; one is the power with 0."""
+    result = one
+    square = base
+    left = exponent
     while left > 0:
         if left & 1:
-            result = multiply(result, square)
+            result = combine(result, square)
         left >>= 1
-        # The last square would be the largest number of all, and no one needs it.
+        # The last square would be the largest value of all, and no one needs it.
         if left > 0:
-            square = multiply(square, square)
+            square = combine(square, square)
     return result

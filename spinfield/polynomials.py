@@ -3,7 +3,7 @@
 from math import gcd, lcm
 
 from spinfield.errors import PolynomialSyntaxError
-from spinfield.fractions import add, multiply, raised
+from spinfield.fractions import add, multiply, raised, repeated
 
 ONE = (((0, 0), 1),)
 DIGITS = "0123456789"
@@ -44,17 +44,7 @@ def times(p, q):
 
 def power(p, exponent):
     """Returns a polynomial to the power of an integer of at least 0."""
-    result = ONE
-    square = p
-    left = exponent
-    while left > 0:
-        if left & 1:
-            result = times(result, square)
-        left >>= 1
-        # The last square would be the longest polynomial of all, and no one needs it.
-        if left > 0:
-            square = times(square, square)
-    return result
+    return repeated(p, exponent, ONE, times)
 
 
 def shared(p, divisor):

@@ -26,6 +26,29 @@ FUNCTIONS = {
         "format_polynomial": ["p"],
         "parse_polynomial": ["text"],
     },
+    "spins": {
+        "all_states": ["spins"],
+        "cost": ["spins", "state"],
+        "ups": ["state"],
+        "without_field": ["spins"],
+        "together": ["first", "second"],
+        "sum_by_states": ["spins"],
+    },
+    "transfer": {
+        "width_of": ["spins", "order"],
+        "least_width": ["spins"],
+        "sum_by_transfer": ["spins", "order"],
+        "least_by_transfer": ["spins", "order"],
+    },
+    "clusters": {
+        "sum_by_clusters": ["spins"],
+        "cluster_polynomial": ["spins"],
+        "colour_sum": ["spins", "colours"],
+    },
+    "loops": {
+        "even_sets": ["spins"],
+        "sum_by_loops": ["spins"],
+    },
 }
 
 CLASSES = {
@@ -33,6 +56,7 @@ CLASSES = {
         "FieldError", "InvalidSpins", "InvalidOrder", "HasField", "NotFerro", "InvalidPlane", "InvalidWeight",
         "InvalidBox", "TooLarge", "PolynomialSyntaxError", "CaseSyntaxError",
     ],
+    "spins": ["Spins"],
 }
 
 
@@ -59,6 +83,10 @@ class Interface(unittest.TestCase):
                 with self.subTest(file=file, name=name):
                     self.assertTrue(inspect.isclass(getattr(module, name)))
                     self.assertEqual(getattr(module, name).__module__, "spinfield." + file)
+
+    def test_spins_are_made_from_fields_and_edges(self):
+        spins = importlib.import_module("spinfield.spins")
+        self.assertEqual(list(inspect.signature(spins.Spins).parameters), ["fields", "edges"])
 
 
 if __name__ == "__main__":
