@@ -47,7 +47,7 @@ def _sum_over_sets(spins, gifts, weights, closing):
     # Up to some vertex of an order, the sets are summed by what the clusters have of
     # the frontier, since only there they can still be joined.
     table = {(): ONE}
-    for vertex, edges, leaving in steps_along(spins, least_width(spins)[1]):
+    for vertex, edges, leaving in steps_along(spins.edges, least_width(spins)[1]):
         table = _with_vertex(table, vertex, gifts[vertex])
         for index in edges:
             table = _with_edge(table, spins.edges[index], weights[index])

@@ -1,8 +1,8 @@
 """Even sets of edges, and the partition polynomial by them."""
 
 from spinfield.errors import HasField, TooLarge
-from spinfield.polynomials import ONE, plus, polynomial, shared, times
-from spinfield.transfer import least_width, steps_along
+from spinfield.polynomials import ONE, minus, plus, shared, times
+from spinfield.transfer import least_order, steps_along
 
 MOST_SETS = 8192
 
@@ -47,31 +47,39 @@ def sum_by_loops(spins):
     """Returns the partition polynomial with 1 for y, found by loops. Raises HasField if a field is not 0."""
     if any(spins.fields):
         raise HasField("loops are for spins without field")
-    states = ((0, 0), 1 << len(spins.fields))
-    return shared(times(_sum_over_even_sets(spins), (states,)), 1 << len(spins.edges))
+    count = len(spins.fields)
+    weights = []
+    for _, _, j in spins.edges:
+        weight = (((j, 0), 1),)
+        weights.append((plus(ONE, weight), minus(ONE, weight)))
+    total = sum_over_even_sets(count, spins.edges, weights)
+    return shared(times(total, (((0, 0), 1 << count),)), 1 << len(weights))
 
 
-def _sum_over_even_sets(spins):
-    """Returns the sum, over all even sets, of 1 - x^j for their edges and 1 + x^j for the other ones."""
+def sum_over_even_sets(count, edges, weights):
+    """Returns the sum, over all even sets of edges between so many vertices, of a product.
+
+    Each edge, perhaps a loop, gives the first of its two weights if it is left out,
+    the second one if it is in the set.
+    """
     # There can be too many even sets for a list. So the sets of the edges up to some
     # vertex are summed by the vertices of the frontier that are odd in them, a mask.
     table = {0: ONE}
-    for _, edges, leaving in steps_along(spins, least_width(spins)[1]):
-        for index in edges:
-            table = _with_edge(table, spins.edges[index])
+    for _, indexes, leaving in steps_along(edges, least_order(count, edges)[1]):
+        for index in indexes:
+            u, v = edges[index][:2]
+            table = _with_edge(table, (1 << u) ^ (1 << v), weights[index])
         gone = sum(1 << vertex for vertex in leaving)
         table = {odd: table[odd] for odd in table if not odd & gone}
     return table[0]
 
 
-def _with_edge(table, edge):
-    """Returns the table of sums behind a further edge."""
-    u, v, j = edge
-    outside = polynomial([((0, 0), 1), ((j, 0), 1)])
-    inside = polynomial([((0, 0), 1), ((j, 0), -1)])
+def _with_edge(table, ends, weight):
+    """Returns the table of sums behind a further edge, which turns the vertices of the mask ends."""
+    out, taken = weight
     grown = {}
     for odd in table:
-        turned = odd ^ (1 << u) ^ (1 << v)
-        grown[odd] = plus(grown.get(odd, ()), times(table[odd], outside))
-        grown[turned] = plus(grown.get(turned, ()), times(table[odd], inside))
+        turned = odd ^ ends
+        grown[odd] = plus(grown.get(odd, ()), times(table[odd], out))
+        grown[turned] = plus(grown.get(turned, ()), times(table[odd], taken))
     return grown

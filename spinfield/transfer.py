@@ -10,16 +10,17 @@ def check_order(spins, order):
         raise InvalidOrder("not each vertex once")
 
 
-def steps_along(spins, order):
-    """Returns a list with a triple for each vertex of an order.
+def steps_along(edges, order):
+    """Returns a list with a triple for each vertex of an order of the vertices that edges join.
 
-    It has the vertex, the indexes of its edges to vertices before it, and the
-    vertices that leave the frontier at it.
+    It has the vertex, the indexes of its edges to itself and to vertices before it,
+    and the vertices that leave the frontier at it.
     """
     places = {vertex: place for place, vertex in enumerate(order)}
     leaving = {vertex: places[vertex] for vertex in order}
     backward = {vertex: [] for vertex in order}
-    for index, (u, v, _) in enumerate(spins.edges):
+    for index, edge in enumerate(edges):
+        u, v = edge[:2]
         later = max(places[u], places[v])
         backward[order[later]].append(index)
         leaving[u] = max(leaving[u], later)
@@ -35,7 +36,7 @@ def width_of(spins, order):
     check_order(spins, order)
     size = 0
     width = 0
-    for _, _, leaving in steps_along(spins, order):
+    for _, _, leaving in steps_along(spins.edges, order):
         size += 1 - len(leaving)
         width = max(width, size)
     return width
@@ -43,8 +44,12 @@ def width_of(spins, order):
 
 def least_width(spins):
     """Returns the pair of the width of the spins and an order with this width."""
-    count = len(spins.fields)
-    near = _neighbours(spins)
+    return least_order(len(spins.fields), spins.edges)
+
+
+def least_order(count, edges):
+    """Returns the pair of the least width of an order of so many vertices and an order with this width."""
+    near = _neighbours(count, edges)
     # The frontier depends on the set of the vertices before it alone, not on their
     # order; so the least width of each set comes from the sets with a vertex less.
     widths = [0]
@@ -63,10 +68,11 @@ def least_width(spins):
     return width, tuple(order[::-1])
 
 
-def _neighbours(spins):
+def _neighbours(count, edges):
     """Returns for each vertex the mask of the vertices to which it has an edge."""
-    near = [0] * len(spins.fields)
-    for u, v, _ in spins.edges:
+    near = [0] * count
+    for edge in edges:
+        u, v = edge[:2]
         near[u] |= 1 << v
         near[v] |= 1 << u
     return near
@@ -80,7 +86,7 @@ def carried(spins, order, start, pay, merge):
     """
     table = {(): start}
     front = []
-    for vertex, edges, leaving in steps_along(spins, order):
+    for vertex, edges, leaving in steps_along(spins.edges, order):
         links = _links(spins, front, vertex, edges)
         front.append(vertex)
         staying = [place for place, other in enumerate(front) if other not in leaving]

@@ -1,8 +1,12 @@
-"""What several tests need: checks of kinds, a few spins, and sums found in the plainest way."""
+"""What several tests need: checks of kinds, a few spins and plane graphs, and sums found in the plainest way."""
 
+import random
+import time
 from fractions import Fraction
 from itertools import combinations, product
+from math import atan2, cos, pi, sin
 
+from spinfield.planes import Plane
 from spinfield.spins import Spins
 
 
@@ -155,3 +159,205 @@ def largest(with_field):
     """Spins of the largest size, with couplings of both signs."""
     edges = [(u, v, (-1) ** k * (k % 9 + 1)) for k, (u, v) in enumerate(LARGEST_PAIRS)]
     return Spins([(v * 5) % 19 - 9 if with_field else 0 for v in range(12)], edges)
+
+
+def plain_faces(edges, turns):
+    """All faces, straight from point 17."""
+    if not edges:
+        return [()]
+    behind = {turn[k]: turn[(k + 1) % len(turn)] for turn in turns for k in range(len(turn))}
+    found = []
+    for least in range(2 * len(edges)):
+        face = [least]
+        while behind[face[-1] ^ 1] != least:
+            face.append(behind[face[-1] ^ 1])
+        if min(face) == least:
+            found.append(tuple(face))
+    return sorted(found)
+
+
+def plain_state_costs(count, edges, couplings):
+    """A dict from all states of a graph to their costs, straight from point 19."""
+    return {
+        state: sum(j for (u, v), j in zip(edges, couplings) if state[u] != state[v])
+        for state in product((0, 1), repeat=count)
+    }
+
+
+def plain_plane_sum(count, edges, couplings):
+    """The plane sum, straight from point 19."""
+    return gathered([((paid, 0), 1) for paid in plain_state_costs(count, edges, couplings).values()])
+
+
+def plain_cut_sum(count, edges, couplings):
+    """The cut sum, straight from point 20."""
+    cuts = set()
+    for state in product((0, 1), repeat=count):
+        cuts.add(tuple(e for e, (u, v) in enumerate(edges) if state[u] != state[v]))
+    return gathered([((sum(couplings[e] for e in cut), 0), 1) for cut in cuts])
+
+
+def plain_even_sum(count, edges, couplings):
+    """The even sum, straight from point 20."""
+    return gathered([((sum(couplings[e] for e in chosen), 0), 1) for chosen in plain_even_sets(count, edges)])
+
+
+def plain_matchings(edges):
+    """All matchings, straight from point 21, as tuples of indexes of edges."""
+    found = [()]
+    for e, edge in enumerate(edges):
+        if edge[0] != edge[1]:
+            found += [chosen + (e,) for chosen in found if not any({*edge[:2]} & {*edges[f][:2]} for f in chosen)]
+    return found
+
+
+def plain_dimer_sum(count, edges):
+    """The dimer sum, straight from point 21, as one of Python's own fractions."""
+    total = Fraction(0)
+    for chosen in plain_matchings(edges):
+        if 2 * len(chosen) == count:
+            part = Fraction(1)
+            for e in chosen:
+                part *= Fraction(*edges[e][2])
+            total += part
+    return total
+
+
+def exact(number):
+    """A fraction as the document has it, from one of Python's own or an integer."""
+    one = Fraction(number)
+    return (one.numerator, one.denominator)
+
+
+def drawn(points, edges):
+    """A plane graph whose edges are drawn straight between points, no two of them alike."""
+    turns = []
+    for v, (x, y) in enumerate(points):
+        leaving = []
+        for e, ends in enumerate(edges):
+            if v in ends:
+                b = ends.index(v)
+                far = points[ends[1 - b]]
+                leaving.append((atan2(far[1] - y, far[0] - x), 2 * e + b))
+        turns.append(tuple(dart for _, dart in sorted(leaving)))
+    return len(points), list(edges), turns
+
+
+def drawn_grid(rows, columns):
+    points = [(column, row) for row in range(rows) for column in range(columns)]
+    down = [(v, v + columns) for v in range((rows - 1) * columns)]
+    along = [(v, v + 1) for v in range(rows * columns) if (v + 1) % columns]
+    return drawn(points, along + down)
+
+
+def around(count):
+    """So many points around the origin."""
+    return [(cos(2 * pi * k / count), sin(2 * pi * k / count)) for k in range(count)]
+
+
+def drawn_ring(count):
+    return drawn(around(count), [(v, (v + 1) % count) for v in range(count)])
+
+
+def drawn_wheel(spokes):
+    """A ring, and a vertex in the middle with an edge to each of its vertices."""
+    edges = [(v, (v + 1) % spokes) for v in range(spokes)] + [(spokes, v) for v in range(spokes)]
+    return drawn(around(spokes) + [(0, 0)], edges)
+
+
+def three_squares():
+    """Three squares, each inside the next one, with edges between them: 12 vertices and 24 edges."""
+    points = [(size * x, size * y) for size in (1, 2, 3) for x, y in ((1, 1), (-1, 1), (-1, -1), (1, -1))]
+    edges = [(4 * k + v, 4 * k + (v + 1) % 4) for k in range(3) for v in range(4)]
+    edges += [(v, v + 4) for v in range(8)] + [(v, 4 + (v + 1) % 4) for v in range(4)]
+    return drawn(points, edges)
+
+
+def row_of_vertices(count):
+    turns = [tuple(dart for dart in (2 * v - 1, 2 * v) if 0 <= dart < 2 * count - 2) for v in range(count)]
+    return count, [(v, v + 1) for v in range(count - 1)], turns
+
+
+def star_of_vertices(count):
+    edges = [(0, v) for v in range(1, count)]
+    return count, edges, [tuple(range(0, 2 * count - 2, 2))] + [(2 * v - 1,) for v in range(1, count)]
+
+
+def side_by_side(many):
+    """So many edges between two vertices."""
+    return 2, [(0, 1)] * many, [tuple(range(0, 2 * many, 2)), tuple(range(2 * many - 1, 0, -2))]
+
+
+def nested_loops(many):
+    """So many loops at one vertex, each inside the one before it."""
+    return 1, [(0, 0)] * many, [tuple(range(0, 2 * many, 2)) + tuple(range(2 * many - 1, 0, -2))]
+
+
+def loops_in_a_row(many):
+    """So many loops at one vertex, none inside another one."""
+    return 1, [(0, 0)] * many, [tuple(range(2 * many))]
+
+
+def grown(seed, leaves, others):
+    """A plane graph with loops and several edges with the same ends, the same one for the same seed."""
+    choose = random.Random(seed).randrange
+    edges, turns = [], [[]]
+    while leaves or others:
+        first = choose(len(turns))
+        leaf = choose(leaves + others) < leaves
+        second = len(turns) if leaf else choose(len(turns))
+        dart = 2 * len(edges)
+        tried = [list(turn) for turn in turns] + ([[]] if leaf else [])
+        tried[first].insert(choose(len(tried[first]) + 1), dart)
+        tried[second].insert(choose(len(tried[second]) + 1), dart + 1)
+        more = edges + [(first, second)]
+        if len(plain_faces(more, tried)) == 2 - len(tried) + len(more):
+            edges, turns = more, tried
+            leaves, others = leaves - leaf, others - (not leaf)
+    return len(turns), edges, [tuple(turn) for turn in turns]
+
+
+# What a plane graph is made of: trees, rings, loops, several edges with the same ends, and mixtures of them.
+PLANES = [
+    (1, [], [()]),
+    (1, [(0, 0)], [(0, 1)]),
+    (1, [(0, 0)], [(1, 0)]),
+    nested_loops(3),
+    loops_in_a_row(3),
+    row_of_vertices(2),
+    (2, [(1, 0)], [(1,), (0,)]),
+    row_of_vertices(5),
+    star_of_vertices(5),
+    side_by_side(2),
+    side_by_side(3),
+    side_by_side(5),
+    # A loop in the middle of an edge, and one around its end.
+    (2, [(0, 1), (0, 0)], [(0, 2, 3), (1,)]),
+    (2, [(0, 0), (1, 0)], [(0, 3, 1), (2,)]),
+    drawn_ring(3),
+    drawn_ring(4),
+    drawn_ring(6),
+    drawn_wheel(4),
+    drawn_wheel(5),
+    drawn_grid(2, 3),
+    drawn_grid(2, 4),
+    drawn_grid(3, 3),
+    drawn([(0, 0), (4, 0), (0, 4), (1, 1)], list(combinations(range(4), 2))),
+] + [grown(seed, 1 + seed % 6, 1 + seed * 3 % 7) for seed in range(24)]
+
+
+def planes():
+    return [Plane(count, list(edges), list(turns)) for count, edges, turns in PLANES]
+
+
+def some_couplings(many, seed):
+    """So many couplings of both signs, 0 among them, the same ones for the same seed."""
+    choose = random.Random(1000 + seed).randrange
+    return [choose(19) - 9 if choose(4) else 0 for _ in range(many)]
+
+
+def timed(function, *arguments):
+    """What a function returns, and the seconds that it needs."""
+    start = time.monotonic()
+    result = function(*arguments)
+    return result, time.monotonic() - start

@@ -49,6 +49,22 @@ FUNCTIONS = {
         "even_sets": ["spins"],
         "sum_by_loops": ["spins"],
     },
+    "planes": {
+        "faces": ["plane"],
+        "dual": ["plane"],
+        "with_leaf": ["plane", "vertex", "place"],
+        "with_edge": ["plane", "first", "place", "second", "other"],
+    },
+    "duals": {
+        "plane_sum": ["plane", "couplings"],
+        "cut_sum": ["plane", "couplings"],
+        "even_sum": ["plane", "couplings"],
+        "sum_by_dual": ["plane", "couplings"],
+    },
+    "matchings": {
+        "matching_sum": ["count", "edges"],
+        "matching_polynomial": ["count", "edges"],
+    },
 }
 
 CLASSES = {
@@ -57,6 +73,7 @@ CLASSES = {
         "InvalidBox", "TooLarge", "PolynomialSyntaxError", "CaseSyntaxError",
     ],
     "spins": ["Spins"],
+    "planes": ["Plane"],
 }
 
 
@@ -87,6 +104,10 @@ class Interface(unittest.TestCase):
     def test_spins_are_made_from_fields_and_edges(self):
         spins = importlib.import_module("spinfield.spins")
         self.assertEqual(list(inspect.signature(spins.Spins).parameters), ["fields", "edges"])
+
+    def test_plane_graphs_are_made_from_count_edges_and_turns(self):
+        planes = importlib.import_module("spinfield.planes")
+        self.assertEqual(list(inspect.signature(planes.Plane).parameters), ["count", "edges", "turns"])
 
 
 if __name__ == "__main__":
