@@ -1,6 +1,6 @@
 """Spins on small graphs, their states, and the partition polynomial, state by state."""
 
-from spinfield.errors import InvalidSpins
+from spinfield.errors import InvalidSpins, NotFerro
 from spinfield.polynomials import polynomial
 
 MOST_VERTICES = 12
@@ -57,6 +57,12 @@ def cost(spins, state):
 def ups(state):
     """Returns the number of vertices that are up in a state."""
     return sum(state)
+
+
+def check_ferro(spins):
+    """Raises NotFerro if a coupling is negative."""
+    if any(j < 0 for _, _, j in spins.edges):
+        raise NotFerro("a coupling is negative")
 
 
 def without_field(spins):

@@ -202,6 +202,17 @@ def plain_even_sum(count, edges, couplings):
     return gathered([((sum(couplings[e] for e in chosen), 0), 1) for chosen in plain_even_sets(count, edges)])
 
 
+def plain_even_value(count, edges, pairs):
+    """The even value, straight from point 24, as one of Python's own fractions."""
+    total = Fraction(0)
+    for chosen in plain_even_sets(count, edges):
+        part = Fraction(1)
+        for e, (taken, out) in enumerate(pairs):
+            part *= Fraction(*(taken if e in chosen else out))
+        total += part
+    return total
+
+
 def plain_matchings(edges):
     """All matchings, straight from point 21, as tuples of indexes of edges."""
     found = [()]
@@ -276,6 +287,16 @@ def three_squares():
 def row_of_vertices(count):
     turns = [tuple(dart for dart in (2 * v - 1, 2 * v) if 0 <= dart < 2 * count - 2) for v in range(count)]
     return count, [(v, v + 1) for v in range(count - 1)], turns
+
+
+def crowd(count, many):
+    """A row of vertices, and loops at the last one: so many vertices and edges."""
+    count, edges, turns = row_of_vertices(count)
+    for _ in range(many - len(edges)):
+        dart = 2 * len(edges)
+        edges.append((count - 1, count - 1))
+        turns[-1] = turns[-1] + (dart, dart + 1)
+    return count, edges, turns
 
 
 def star_of_vertices(count):
@@ -354,6 +375,14 @@ def some_couplings(many, seed):
     """So many couplings of both signs, 0 among them, the same ones for the same seed."""
     choose = random.Random(1000 + seed).randrange
     return [choose(19) - 9 if choose(4) else 0 for _ in range(many)]
+
+
+def wrong_couplings(many):
+    """Lists that are no couplings for so many edges: too short, too long, or with one that is too large."""
+    wrong = [[0] * (many + 1), [0] * (many + 2)] + ([[0] * (many - 1), []] if many else [])
+    for place in range(many):
+        wrong += [[0] * place + [j] + [0] * (many - place - 1) for j in (-100, -10, 10, 11)]
+    return wrong
 
 
 def timed(function, *arguments):

@@ -3,9 +3,9 @@
 import unittest
 
 from helper import (
-    PLANES, gathered, grown, is_polynomial, loops_in_a_row, nested_loops, plain_cut_sum, plain_even_sum,
+    PLANES, crowd, gathered, grown, is_polynomial, loops_in_a_row, nested_loops, plain_cut_sum, plain_even_sum,
     plain_plane_sum, planes, product_of, row_of_vertices, side_by_side, some_couplings, star_of_vertices,
-    three_squares, timed,
+    three_squares, timed, wrong_couplings,
 )
 from spinfield.duals import cut_sum, even_sum, plane_sum, sum_by_dual
 from spinfield.errors import InvalidWeight, TooLarge
@@ -33,16 +33,6 @@ def with_couplings():
             yield plane, couplings
         for k in range(3):
             yield plane, some_couplings(many, 10 * seed + k)
-
-
-def crowd(count, many):
-    """A row of vertices, with loops at the last one: so many vertices and edges."""
-    count, edges, turns = row_of_vertices(count)
-    for _ in range(many - len(edges)):
-        dart = 2 * len(edges)
-        edges.append((count - 1, count - 1))
-        turns[-1] = turns[-1] + (dart, dart + 1)
-    return Plane(count, edges, turns)
 
 
 class Examples(unittest.TestCase):
@@ -127,26 +117,19 @@ class Refused(unittest.TestCase):
     def test_too_few_too_many_or_too_large_couplings(self):
         for handed in PLANES:
             plane = Plane(*handed)
-            many = len(plane.edges)
-            wrong = [[0] * (many + 1)]
-            if many:
-                wrong += [[0] * (many - 1), []]
-            for place in range(many):
-                for j in (-11, -10, 10, 100):
-                    wrong.append([0] * place + [j] + [0] * (many - place - 1))
             for function in (plane_sum, cut_sum, even_sum, sum_by_dual):
-                for couplings in wrong:
+                for couplings in wrong_couplings(len(plane.edges)):
                     with self.assertRaises(InvalidWeight):
                         function(plane, couplings)
                 for j in (-9, 9):
-                    self.assertTrue(function(plane, [j] * many))
+                    self.assertTrue(function(plane, [j] * len(plane.edges)))
 
     def test_too_many_vertices_or_edges(self):
         for function in (plane_sum, cut_sum, even_sum):
             for count, many in ((12, 11), (12, 24), (1, 24), (11, 24), (2, 23)):
-                self.assertTrue(function(crowd(count, many), [1] * many))
-            for count, many in ((13, 12), (13, 24), (13, 25), (12, 25), (1, 25), (2, 26), (20, 19), (100, 99), (3, 160)):
-                plane = crowd(count, many)
+                self.assertTrue(function(Plane(*crowd(count, many)), [1] * many))
+            for count, many in ((13, 12), (13, 24), (13, 25), (12, 25), (1, 25), (2, 26), (100, 99), (3, 160)):
+                plane = Plane(*crowd(count, many))
                 with self.subTest(function=function, count=count, many=many):
                     with self.assertRaises(TooLarge):
                         function(plane, [1] * many)
@@ -160,13 +143,13 @@ class Refused(unittest.TestCase):
     def test_too_many_faces_or_edges_for_the_dual(self):
         for count, loops in ((1, 11), (5, 11), (13, 11), (14, 11), (13, 5), (14, 10), (25, 0)):
             many = count - 1 + loops
-            plane = crowd(count, many)
+            plane = Plane(*crowd(count, many))
             self.assertEqual(len(faces(plane)), loops + 1)
             expected = product_of([row(0, 1)] * (count - 1) + [row(0, 0)])
             self.assertEqual(sum_by_dual(plane, [1] * many), expected)
-        for count, loops in ((1, 12), (2, 12), (12, 12), (13, 12), (14, 12), (25, 1), (26, 0), (1, 24), (1, 160), (100, 0)):
+        for count, loops in ((1, 12), (2, 12), (12, 12), (13, 12), (14, 12), (25, 1), (26, 0), (1, 160), (100, 0)):
             many = count - 1 + loops
-            plane = crowd(count, many)
+            plane = Plane(*crowd(count, many))
             with self.subTest(count=count, loops=loops):
                 with self.assertRaises(TooLarge):
                     sum_by_dual(plane, [1] * many)
@@ -180,7 +163,7 @@ class Largest(unittest.TestCase):
     def test_the_time_that_they_need(self):
         squares = Plane(*three_squares())
         self.assertEqual((squares.count, len(squares.edges), len(faces(squares))), (12, 24, 14))
-        for seed, plane in enumerate([squares, Plane(*grown(77, 11, 13)), crowd(12, 24), crowd(1, 24)]):
+        for seed, plane in enumerate([squares, Plane(*grown(77, 11, 13)), Plane(*crowd(12, 24)), Plane(*crowd(1, 24))]):
             self.assertEqual(len(plane.edges), 24)
             couplings = some_couplings(24, seed)
             cuts, first = timed(cut_sum, plane, couplings)
@@ -200,7 +183,7 @@ class Largest(unittest.TestCase):
             self.assertEqual(found, twice(even_sum(plane, couplings)))
             self.assertLess(needed, 10)
         # With a leaf more at the end of a tree there would be 25 edges.
-        longest = crowd(25, 24)
+        longest = Plane(*crowd(25, 24))
         self.assertEqual(sum_by_dual(longest, [1] * 24), product_of([row(0, 1)] * 24 + [row(0, 0)]))
         with self.assertRaises(TooLarge):
             sum_by_dual(with_leaf(longest, 0, 0), [1] * 25)

@@ -65,6 +65,25 @@ FUNCTIONS = {
         "matching_sum": ["count", "edges"],
         "matching_polynomial": ["count", "edges"],
     },
+    "pfaffians": {
+        "pfaffian": ["rows"],
+        "good_orientation": ["plane"],
+        "is_good_orientation": ["plane", "orientation"],
+        "dimer_sum": ["plane", "weights"],
+    },
+    "decorations": {
+        "even_value": ["plane", "pairs"],
+        "plane_value": ["plane", "couplings", "x"],
+        "sum_by_dimers": ["plane", "couplings"],
+    },
+    "flows": {
+        "flow_bound": ["spins", "flow"],
+        "least_by_flow": ["spins"],
+    },
+    "circuits": {
+        "packing_bound": ["plane", "couplings", "packing"],
+        "least_by_circuits": ["plane", "couplings"],
+    },
 }
 
 CLASSES = {

@@ -88,6 +88,7 @@ class Constructor(unittest.TestCase):
     def test_ends_that_are_not_there(self):
         for edge in ((0, 2), (2, 0), (0, -1), (-1, 0), (-2, 1), (0, 100)):
             self.refused(2, [edge], [(0,), (1,)])
+        self.refused(2, [(-1, 0)], [(1,), (0,)])
         self.refused(1, [(0, 1)], [(0, 1)])
         self.refused(1, [(-1, -1)], [(0, 1)])
         self.refused(3, [(0, 1), (1, 2), (2, 3)], TRIANGLE[2])
@@ -232,7 +233,10 @@ class Duals(unittest.TestCase):
 
     def test_faces_of_the_dual_are_the_turning_orders(self):
         for plane in planes():
-            turned = [turn[turn.index(min(turn)):] + turn[:turn.index(min(turn))] if turn else () for turn in plane.turns]
+            turned = []
+            for turn in plane.turns:
+                first = turn.index(min(turn)) if turn else 0
+                turned.append(turn[first:] + turn[:first])
             self.assertEqual(faces(dual(plane)), sorted(turned))
 
     def test_the_number_of_faces(self):
