@@ -390,3 +390,56 @@ def timed(function, *arguments):
     start = time.monotonic()
     result = function(*arguments)
     return result, time.monotonic() - start
+
+
+def row_times(rows):
+    """The row of the product of the polynomials that rows stand for."""
+    result = [1]
+    for row in rows:
+        longer = [0] * (len(result) + len(row) - 1)
+        for i, a in enumerate(result):
+            for j, b in enumerate(row):
+                longer[i + j] += a * b
+        result = longer
+    return tuple(result)
+
+
+def row_of(roots, factor=1):
+    """A row with roots, pairs (re, im); with a root that is not real its mirror image is a root, too."""
+    rows = [(factor,)]
+    for re, im in roots:
+        re, im = Fraction(re), Fraction(im)
+        entries = [-re, 1] if im == 0 else [re * re + im * im, -2 * re, 1]
+        multiple = 1
+        for entry in entries:
+            multiple *= Fraction(entry).denominator
+        rows.append([int(entry * multiple) for entry in entries])
+    return row_times(rows)
+
+
+def all_roots(roots):
+    """The set of all roots of row_of."""
+    pairs = [(Fraction(re), Fraction(im)) for re, im in roots]
+    return set(pairs) | {(re, -im) for re, im in pairs}
+
+
+def near_roots(row):
+    """Numbers near to the roots of a row that has none of them repeatedly, found by steps that come to all at once."""
+    last = max(row, key=abs)
+    monic = [complex(Fraction(entry, last)) / complex(Fraction(row[-1], last)) for entry in row]
+    size = 1 + max(abs(entry) for entry in monic[:-1]) ** 0.5
+    found = [size * (0.4 + 0.9j) ** k for k in range(len(row) - 1)]
+    for _ in range(2000):
+        moved = []
+        for k, z in enumerate(found):
+            worth = 0
+            for entry in reversed(monic):
+                worth = worth * z + entry
+            for other in moved + found[k + 1:]:
+                worth /= z - other
+            moved.append(z - worth)
+        done = max(abs(z - old) for z, old in zip(moved, found)) < 1e-13
+        found = moved
+        if done:
+            return found
+    raise AssertionError("no roots were found")

@@ -84,6 +84,23 @@ FUNCTIONS = {
         "packing_bound": ["plane", "couplings", "packing"],
         "least_by_circuits": ["plane", "couplings"],
     },
+    "roots": {
+        "real_count": ["row", "low", "high"],
+        "real_intervals": ["row", "width"],
+    },
+    "boxes": {
+        "box_count": ["row", "box"],
+        "root_boxes": ["row", "width"],
+        "circle_count": ["row"],
+        "all_on_circle": ["row"],
+    },
+    "correlations": {
+        "pair_sum": ["spins", "u", "v"],
+        "pair_by_transfer": ["spins", "order", "u", "v"],
+        "correlation": ["spins", "u", "v", "x", "y"],
+        "ups_mean": ["spins", "x", "y"],
+        "ups_spread": ["spins", "x", "y"],
+    },
 }
 
 CLASSES = {
