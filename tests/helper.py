@@ -443,3 +443,61 @@ def near_roots(row):
         if done:
             return found
     raise AssertionError("no roots were found")
+
+
+def plain_weights(fields, edges, x, y):
+    """What point 36 has above the line, for all states in order, as Python's own fractions."""
+    weights = []
+    for state in product((0, 1), repeat=len(fields)):
+        paid = sum(j for u, v, j in edges if state[u] != state[v])
+        paid += sum(h for h, spin in zip(fields, state) if spin)
+        weights.append(Fraction(*x) ** paid * Fraction(*y) ** sum(state))
+    return weights
+
+
+def is_table(table, states):
+    """True for a table of moves with so many states, as point 37 has it."""
+    if not (type(table) is tuple and len(table) == states and all(type(row) is tuple for row in table)):
+        return False
+    for row in table:
+        if not all(type(pair) is tuple and len(pair) == 2 and is_integer(pair[0]) for pair in row):
+            return False
+        if not all(is_fraction(chance) and chance[0] > 0 for _, chance in row):
+            return False
+        indexes = [index for index, _ in row]
+        if not all(0 <= index < states for index in indexes) or indexes != sorted(set(indexes)):
+            return False
+        if sum(Fraction(*chance) for _, chance in row) != 1:
+            return False
+    return True
+
+
+def square_of(table):
+    """The chances of a table, row by row, with 0 where it has no pair."""
+    square = [[Fraction(0)] * len(table) for _ in table]
+    for index, row in enumerate(table):
+        for other, chance in row:
+            square[index][other] = Fraction(*chance)
+    return square
+
+
+# Spins of at most 6 vertices and 10 edges.
+SMALL = [(fields, edges) for fields, edges in SAMPLES if len(fields) <= 6 and len(edges) <= 10]
+
+
+def small_samples():
+    return [Spins(list(fields), list(edges)) for fields, edges in SMALL]
+
+
+def small_ferro(with_field):
+    """The small spins without negative couplings."""
+    return [
+        Spins(list(fields) if with_field else [0] * len(fields), [(u, v, abs(j)) for u, v, j in edges])
+        for fields, edges in SMALL
+    ]
+
+
+def dense(count, many, size, field):
+    """Spins with so many of the first edges, couplings from 1 to a size, and fields up to a size of both signs."""
+    edges = [(u, v, 1 + k % size) for k, (u, v) in enumerate(combinations(range(count), 2))][:many]
+    return Spins([(v * 7) % (2 * field + 1) - field for v in range(count)], edges)

@@ -101,6 +101,31 @@ FUNCTIONS = {
         "ups_mean": ["spins", "x", "y"],
         "ups_spread": ["spins", "x", "y"],
     },
+    "series": {
+        "series_product": ["first", "second"],
+        "exponential": ["series"],
+        "logarithm": ["series"],
+        "cumulants": ["spins", "count"],
+    },
+    "distributions": {
+        "distribution_of": ["spins", "x", "y"],
+        "after": ["distribution", "table"],
+        "keeps": ["distribution", "table"],
+        "is_balanced": ["distribution", "table"],
+        "followed": ["first", "second"],
+    },
+    "moves": {
+        "heat_bath": ["spins", "vertex", "x", "y"],
+        "trial": ["spins", "vertex", "x", "y"],
+        "cluster_move": ["spins", "x", "y"],
+        "single_turn": ["spins", "x"],
+        "joint_sums": ["spins", "x", "y"],
+    },
+    "cases": {
+        "format_spins": ["spins"],
+        "parse_spins": ["text"],
+        "answer_case": ["text"],
+    },
 }
 
 CLASSES = {
